@@ -1,0 +1,1 @@
+"""Holdsets: sets of places that hold a web."""
