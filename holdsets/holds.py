@@ -39,31 +39,39 @@ def refuse_no_places(web, thing):
         raise NoPlace()
 
 
-def why_not(web, places):
-    """Tell the first fault for which the places are no hold of the web, None where they are one."""
-    refuse_no_places(web, places)
-    tied = tied_arrows(web, places)
+def first_fault(tied, lost):
+    """Tell the first of the tied arrows as a fault, else the first of the lost places, None where there is neither."""
     if tied != []:
         return ("tied", tied[0][0], tied[0][1])
-    lost = lost_places(web, places)
     if lost != []:
         return ("lost", lost[0])
     return None
 
 
-def why_not_good(web, places, thing):
-    """Tell whether the thing, whatever it is, is a fault for which the places are no hold of the web."""
+def why_not(web, places):
+    """Tell the first fault for which the places are no hold of the web, None where they are one."""
     refuse_no_places(web, places)
+    return first_fault(tied_arrows(web, places), lost_places(web, places))
+
+
+def fault_good(web, tied, lost, thing):
+    """Tell whether the thing, whatever it is, tells one of the tied arrows, or of the lost places, as a fault."""
     if not isinstance(thing, tuple) or thing == ():
         return False
     word = thing[0]
     ends = thing[1:]
     if word == "tied":
         # A truth would be found among the arrows like the number it equals, so pairs are asked first.
-        return pair_good(web, ends) and ends in tied_arrows(web, places)
+        return pair_good(web, ends) and ends in tied
     if word == "lost" and len(ends) == 1:
-        return place_good(web, ends[0]) and ends[0] in lost_places(web, places)
+        return place_good(web, ends[0]) and ends[0] in lost
     return False
+
+
+def why_not_good(web, places, thing):
+    """Tell whether the thing, whatever it is, is a fault for which the places are no hold of the web."""
+    refuse_no_places(web, places)
+    return fault_good(web, tied_arrows(web, places), lost_places(web, places), thing)
 
 
 def half_good(web, thing):

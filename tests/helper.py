@@ -25,6 +25,10 @@ def whatever():
         (2, [(0, 1)]), [2, ((0, 1),)], (2, ([0, 1],)), (True, ()), (2, ((0, True),)), (2, ((False, 1),)),
         nested(lambda thing: [thing], 50), nested(lambda thing: (thing,), 50), nested(lambda thing: {0: thing}, 50),
         nested(lambda thing: (thing, [thing]) if thing == 0 else (thing,), 50),
+        (True, False), (False, False), (True, True, False), [True, False], (True, 0), (1, False), (True, None), ((True,),),
+        {True: False}, (True, "False"), (False,) * 45, "cases", ("cases",), ("cases", (), ()), ("cases", True, False),
+        ("cases", ("lost", 0), ("lost", 0)), ("cases", ("tied", 0, 1), ("lost", 0)), ["cases", ("lost", 0), ("lost", 0)],
+        nested(lambda thing: ("cases", thing, 0), 50), nested(lambda thing: ("cases", ("lost", 0), thing), 49),
     ]
 
 
@@ -57,6 +61,30 @@ def great_webs():
     return webs
 
 
+def ringless_webs():
+    """Webs without rings, one or two of each number of places from 1 to 40, whose numbers follow no order."""
+    drawn = random.Random(2)
+    webs = []
+    for many in range(1, 41):
+        order = drawn.sample(range(many), many)
+        steps = [(order[a], order[b]) for a in range(many) for b in range(a)]
+        for count in sorted({min(many, len(steps)), min(4 * many, len(steps), 200)}):
+            webs.append((many, tuple(sorted(drawn.sample(steps, count)))))
+    return webs
+
+
+def counted_webs():
+    """Some webs of five to twelve places, the same ones each time."""
+    drawn = random.Random(3)
+    webs = []
+    for many in range(5, 13):
+        for count in (many - 1, many + 2, 3 * many):
+            webs.append((many, tuple(sorted(drawn.sample(pairs_of(many), min(count, many * (many - 1)))))))
+        ring = tuple(sorted((place, (place + 1) % many) for place in range(many)))
+        webs.append((many, ring))
+    return webs
+
+
 def subsets(places):
     """All rising tuples of some of the places, perhaps none."""
     places = tuple(places)
@@ -71,3 +99,45 @@ def is_rising_places(web, thing):
     if not isinstance(thing, tuple) or not all(is_place(web, part) for part in thing):
         return False
     return list(thing) == sorted(set(thing))
+
+
+def is_tied(web, places):
+    return any(a in places and b in places for a, b in web[1])
+
+
+def leads_into(web, place, places):
+    return any((place, b) in web[1] for b in places)
+
+
+def is_lost(web, places, place):
+    return place not in places and not leads_into(web, place, places)
+
+
+def is_hold(web, places):
+    return not is_tied(web, places) and not any(is_lost(web, places, place) for place in range(web[0]))
+
+
+def holds_by_trial(web):
+    """Tell all holds of a small web, rising as tuples, by trying all sets of places."""
+    return sorted(some for some in subsets(range(web[0])) if is_hold(web, some))
+
+
+def is_ring(web, places):
+    return len(places) > 1 and all(step in web[1] for step in zip(places, places[1:] + places[:1]))
+
+
+def rings_of(web):
+    """Tell all rings of a small web, by trying all rows of its places."""
+    ways = [way for count in range(2, web[0] + 1) for way in itertools.permutations(range(web[0]), count)]
+    return [way for way in ways if is_ring(web, way)]
+
+
+def beginnings_of(web):
+    """Tell all beginnings of a small web, those of fewer truths ahead."""
+    return [some for count in range(web[0] + 1) for some in itertools.product((False, True), repeat=count)]
+
+
+def is_beginning(web, thing):
+    if not isinstance(thing, tuple) or len(thing) > web[0]:
+        return False
+    return all(repr(truth) in ("True", "False") for truth in thing)

@@ -6,28 +6,14 @@ import unittest
 from holdsets.errors import NoHold, NoPlace
 from holdsets.holds import half_good, halves_joined, hold_good, left_by, put_on, why_not, why_not_good
 from holdsets.webs import among_web
-from tests.helper import great_webs, is_rising_places, small_webs, subsets, whatever
+from tests.helper import (
+    great_webs, is_hold, is_lost, is_rising_places, is_tied, leads_into, small_webs, subsets, whatever,
+)
 
 # A ring of four, and a place that leads to nothing, led to by one of the ring.
 SQUARE = (5, ((0, 1), (1, 2), (2, 3), (3, 0), (3, 4)))
 PATH = (4, ((0, 1), (1, 2), (2, 3)))
 THREE = (3, ((0, 1), (1, 2), (2, 0)))
-
-
-def is_tied(web, places):
-    return any(a in places and b in places for a, b in web[1])
-
-
-def leads_into(web, place, places):
-    return any((place, b) in web[1] for b in places)
-
-
-def is_lost(web, places, place):
-    return place not in places and not leads_into(web, place, places)
-
-
-def is_hold(web, places):
-    return not is_tied(web, places) and not any(is_lost(web, places, place) for place in range(web[0]))
 
 
 def is_half(web, places):

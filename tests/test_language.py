@@ -53,6 +53,26 @@ def own_attributes(trees):
     return names
 
 
+def top_names(tree):
+    """Tell the names that a file binds at its top, but those that it imports."""
+    names = [node.name for node in tree.body if isinstance(node, (ast.FunctionDef, ast.ClassDef))]
+    return names + [node.targets[0].id for node in tree.body if isinstance(node, ast.Assign)]
+
+
+def imported_names(tree):
+    return [name.name for node in tree.body if isinstance(node, ast.ImportFrom) for name in node.names]
+
+
+def imported_files(tree):
+    return {node.module.split(".")[1] for node in tree.body if isinstance(node, ast.ImportFrom)}
+
+
+def local_names(function):
+    """Tell the parameters and the names that are bound within a function."""
+    names = {node.arg for node in ast.walk(function) if isinstance(node, ast.arg)}
+    return names | {node.id for node in ast.walk(function) if isinstance(node, ast.Name) and isinstance(node.ctx, ast.Store)}
+
+
 class LanguageTest(unittest.TestCase):
     def setUp(self):
         self.texts = {path: path.read_text(encoding="ascii") for path in package_files()}
@@ -89,6 +109,43 @@ class LanguageTest(unittest.TestCase):
             self.assertEqual(node.level, 0, where)
             self.assertTrue(node.module.startswith("holdsets."), where)
             self.assertNotIn("*", [name.name for name in node.names], where)
+
+    def test_imports_from_the_file_that_defines_the_name(self):
+        defined = {path.stem: top_names(tree) for path, tree in self.trees.items()}
+        for where, node in self.nodes(ast.ImportFrom):
+            for name in node.names:
+                self.assertIsNone(name.asname, where)
+                self.assertIn(name.name, defined[node.module.split(".")[1]], where)
+
+    def test_no_two_files_draw_from_one_another(self):
+        drawn = {path.stem: imported_files(tree) for path, tree in self.trees.items()}
+        self.assertEqual(drawn["__init__"], set())
+        done = set()
+        while drawn:
+            ready = {name for name, others in drawn.items() if others <= done}
+            self.assertNotEqual(ready, set(), drawn)
+            done |= ready
+            drawn = {name: others for name, others in drawn.items() if name not in ready}
+
+    def test_names_are_bound_once(self):
+        for path, tree in self.trees.items():
+            names = top_names(tree) + imported_names(tree)
+            self.assertEqual(sorted(names), sorted(set(names)), path.name)
+            for function in tree.body:
+                if isinstance(function, ast.FunctionDef):
+                    self.assertEqual(local_names(function) & set(names), set(), path.name)
+
+    def test_walked_at_once(self):
+        for path, tree in self.trees.items():
+            allowed = set()
+            for node in ast.walk(tree):
+                if isinstance(node, (ast.For, ast.comprehension)):
+                    allowed.add(node.iter)
+                if isinstance(node, ast.Call):
+                    allowed |= set(node.args)
+            for node in ast.walk(tree):
+                if isinstance(node, ast.Call) and getattr(node.func, "id", "") in ("range", "zip", "enumerate", "reversed"):
+                    self.assertIn(node, allowed, f"{path.name}:{node.lineno}")
 
     def test_kinds_of_steps(self):
         for where, node in self.nodes(ast.AST):

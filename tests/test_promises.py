@@ -1,14 +1,21 @@
-"""[0.1] to [0.4] and the interface, for holdsets.webs and holdsets.holds."""
+"""[0.1] to [0.4] and the interface, for all modules but holdsets.errors."""
 
 import copy
 import inspect
 import unittest
 
-from holdsets import holds, webs
-from holdsets.errors import NoHold, NoPlace, NoWeb, WebError
-from tests.helper import great_webs, nested, pairs_of, small_webs, subsets, whatever
+from holdsets import cases, counting, holds, marks, webs
+from holdsets.errors import NoHold, NoNumber, NoPlace, NoWeb, Ringed, TooGreat, WebError
+from tests.helper import (
+    counted_webs, great_webs, nested, pairs_of, ringless_webs, small_webs, subsets, whatever,
+)
 
 WEB = (6, ((0, 1), (1, 2), (2, 3), (3, 0), (3, 4)))
+PATH = (4, ((0, 1), (1, 2), (2, 3)))
+# Two rings of two: four holds.
+PAIRS = (4, ((0, 1), (1, 0), (2, 3), (3, 2)))
+# Nine places that lead to a ring of three places behind them, which no set of places holds.
+LATE = (12, tuple(sorted([(place, 9) for place in range(9)] + [(9, 10), (10, 11), (11, 9)])))
 
 INTERFACE = (
     (webs, "web_good", ["thing"]),
@@ -30,6 +37,23 @@ INTERFACE = (
     (holds, "halves_joined", ["web", "one", "other"]),
     (holds, "left_by", ["web", "half"]),
     (holds, "put_on", ["web", "half", "hold"]),
+    (marks, "marks_good", ["web", "thing"]),
+    (marks, "marks_of", ["web", "hold"]),
+    (marks, "hold_of", ["web", "marks"]),
+    (marks, "one_hold", ["web"]),
+    (marks, "depths_of", ["web"]),
+    (marks, "grown_web", ["web", "places"]),
+    (counting, "all_holds", ["web"]),
+    (counting, "holds_count", ["web"]),
+    (counting, "nth_hold", ["web", "number"]),
+    (counting, "rank_of", ["web", "hold"]),
+    (counting, "next_hold", ["web", "hold"]),
+    (counting, "holds_begun", ["web", "begun"]),
+    (counting, "next_marks", ["web", "begun"]),
+    (counting, "always_in", ["web"]),
+    (counting, "never_in", ["web"]),
+    (cases, "cases_good", ["web", "begun", "thing"]),
+    (cases, "cases_for", ["web", "begun"]),
 )
 
 # Each question with one thing left open, for whatever is handed in there.
@@ -52,6 +76,15 @@ ASKED_OF_WHATEVER = (
     ("left_by", lambda thing: holds.left_by(WEB, thing)),
     ("put_on half", lambda thing: holds.put_on(WEB, thing, (0,))),
     ("put_on hold", lambda thing: holds.put_on(WEB, (4,), thing)),
+    ("marks_good", lambda thing: marks.marks_good(PAIRS, thing)),
+    ("nth_hold", lambda thing: counting.nth_hold(PAIRS, thing)),
+    ("rank_of", lambda thing: counting.rank_of(PAIRS, thing)),
+    ("next_hold", lambda thing: counting.next_hold(PAIRS, thing)),
+    ("holds_begun", lambda thing: counting.holds_begun(PAIRS, thing)),
+    ("next_marks", lambda thing: counting.next_marks(PAIRS, thing)),
+    ("cases_good begun", lambda thing: cases.cases_good(PAIRS, thing, ("lost", 0))),
+    ("cases_good thing", lambda thing: cases.cases_good(PAIRS, (False, False), thing)),
+    ("cases_for", lambda thing: cases.cases_for(PAIRS, thing)),
 )
 
 QUESTIONS = (
@@ -76,6 +109,43 @@ QUESTIONS = (
     (holds.halves_joined, (WEB, (0, 2), (4,))),
     (holds.left_by, (WEB, (4,))),
     (holds.put_on, (WEB, (4,), (0, 2, 3))),
+    (marks.marks_good, (PATH, (False, True, False, True))),
+    (marks.marks_of, (PATH, (1, 3))),
+    (marks.hold_of, (PATH, (False, True, False, True))),
+    (marks.one_hold, (PATH,)),
+    (marks.one_hold, (PAIRS,)),
+    (marks.depths_of, (PATH,)),
+    (marks.depths_of, (WEB,)),
+    (marks.grown_web, (PATH, (1, 2))),
+    (marks.grown_web, ((40, ()), ())),
+    (counting.all_holds, (PAIRS,)),
+    (counting.all_holds, ((13, ()),)),
+    (counting.holds_count, (PAIRS,)),
+    (counting.nth_hold, (PAIRS, 3)),
+    (counting.nth_hold, (PAIRS, 4)),
+    (counting.rank_of, (PAIRS, (1, 2))),
+    (counting.next_hold, (PAIRS, (1, 2))),
+    (counting.next_hold, (PAIRS, (1, 3))),
+    (counting.holds_begun, (PAIRS, (True,))),
+    (counting.next_marks, (PAIRS, (True, False))),
+    (counting.next_marks, (PAIRS, (True, True))),
+    (counting.always_in, (WEB,)),
+    (counting.never_in, (WEB,)),
+    (cases.cases_good, (PATH, (True, True), ("tied", 0, 1))),
+    (cases.cases_for, (PATH, (True,))),
+    (cases.cases_for, (PATH, (False,))),
+    (cases.cases_for, (LATE, ())),
+)
+
+# Questions that are answered with lists.
+LISTS_TOLD = (
+    (webs.leads_to, (WEB, 3)),
+    (webs.led_from, (WEB, 0)),
+    (webs.ends_of, (WEB,)),
+    (webs.groups_of, (WEB,)),
+    (marks.depths_of, (PATH,)),
+    (counting.all_holds, (PAIRS,)),
+    (counting.next_marks, (PAIRS, ())),
 )
 
 
@@ -105,6 +175,11 @@ class InterfaceTest(unittest.TestCase):
         self.assertEqual(len(webs.comes_of(far, 0)), 45)
         self.assertIs(holds.hold_good((45, ()), tuple(range(45))), True)
         self.assertEqual(holds.why_not(far, (44,)), ("lost", 5))
+        self.assertIs(marks.marks_good((45, ()), (True,) * 45), True)
+        self.assertEqual(marks.hold_of((45, ()), marks.marks_of((45, ()), tuple(range(45)))), tuple(range(45)))
+        self.assertEqual(marks.one_hold((45, ())), tuple(range(45)))
+        self.assertEqual(marks.depths_of((45, ((0, 44),))), [1] + [0] * 44)
+        self.assertIs(cases.cases_good(far, (True,) * 45, ("tied", 5, 0)), True)
 
 
 class ShownTest(unittest.TestCase):
@@ -118,6 +193,21 @@ class ShownTest(unittest.TestCase):
                 told = holds.why_not(web, places)
                 self.assertIs(holds.why_not_good(web, places, told), told is not None)
                 self.assertIs(holds.hold_good(web, places), told is None)
+
+    def test_each_hold_and_each_paper_is_what_the_looker_asks_for(self):
+        for web in small_webs() + counted_webs():
+            for hold in counting.all_holds(web):
+                self.assertIs(holds.hold_good(web, hold), True)
+                self.assertIs(marks.marks_good(web, marks.marks_of(web, hold)), True)
+            for begun in ((), (True,), (False,)):
+                paper = cases.cases_for(web, begun)
+                self.assertIs(cases.cases_good(web, begun, paper), counting.holds_begun(web, begun) == 0)
+
+    def test_where_no_ring_is_there_is_just_one_hold(self):
+        for web in ringless_webs():
+            self.assertIs(holds.hold_good(web, marks.one_hold(web)), True)
+            if web[0] <= 12:
+                self.assertEqual(counting.all_holds(web), [marks.one_hold(web)])
 
 
 class UnchangedTest(unittest.TestCase):
@@ -146,11 +236,11 @@ class UnchangedTest(unittest.TestCase):
         self.assertEqual(webs.web_of(2, [(1, 0), (0, 1)]), web)
 
     def test_lists_that_are_told_are_the_asker_s_own(self):
-        for ask, things in ((webs.leads_to, (WEB, 3)), (webs.led_from, (WEB, 0)), (webs.ends_of, (WEB,)),
-                            (webs.groups_of, (WEB,))):
+        for ask, things in LISTS_TOLD:
             with self.subTest(ask=ask.__name__):
                 told = ask(*things)
                 ahead = list(told)
+                self.assertIsInstance(told, list)
                 self.assertIsNot(ask(*things), told)
                 told.append(99)
                 told[0] = None
@@ -177,6 +267,21 @@ class UnchangedTest(unittest.TestCase):
                 self.assertIs(webs.web_good(webs.among_web(told, group)), True)
                 self.assertIn(holds.hold_good(told, group), (True, False))
 
+    def test_holds_and_papers_told_may_be_handed_in_again(self):
+        paper = cases.cases_for(LATE, ())
+        self.assertGreater(len(repr(paper)), 20000)
+        for _ in range(2):
+            self.assertIs(cases.cases_good(LATE, (), paper), True)
+            self.assertEqual(cases.cases_for(LATE, ()), paper)
+        for web in counted_webs():
+            for number, hold in enumerate(counting.all_holds(web)):
+                self.assertEqual(counting.rank_of(web, hold), number)
+                self.assertEqual(counting.holds_begun(web, marks.marks_of(web, hold)), 1)
+        web = (1, ())
+        while web[0] < 40:
+            web = marks.grown_web(web, marks.one_hold(web)[:5])
+        self.assertIs(holds.hold_good(web, marks.one_hold(web)), True)
+
 
 class WhateverTest(unittest.TestCase):
     """[0.3]"""
@@ -195,6 +300,12 @@ class WhateverTest(unittest.TestCase):
                 holds.left_by(two, (thing,))
             self.assertIs(holds.hold_good(two, (thing,)), False)
             self.assertIs(holds.half_good(two, (thing,)), False)
+            for ask in (counting.rank_of, counting.next_hold):
+                with self.assertRaises(NoHold):
+                    ask(two, (thing,))
+            with self.assertRaises(NoNumber):
+                counting.nth_hold(two, thing)
+        self.assertIs(cases.cases_good(two, (True, True), ("tied", False, True)), False)
         self.assertIs(webs.ring_good(two, (False, True)), False)
         self.assertIs(webs.order_good((2, ()), (False, True)), False)
 
@@ -208,7 +319,7 @@ class WhateverTest(unittest.TestCase):
 
     def test_lookers_tell_truths_alone(self):
         for name, ask in ASKED_OF_WHATEVER:
-            if "good" in name and "places" not in name:
+            if "good" in name and name.split()[-1] not in ("places", "begun"):
                 for thing in whatever():
                     with self.subTest(name=name, thing=thing):
                         self.assertIn(repr(ask(thing)), ("True", "False"))
@@ -225,11 +336,30 @@ class FirstRefusalTest(unittest.TestCase):
             webs.web_of(3, [(0, 1), (1, 1), (0, 1)] + pairs_of(40)[:300])
         self.assertEqual(caught.exception.number, 1)
 
+    def test_too_great_goes_ahead_of_what_else_is_handed_in(self):
+        great = (13, ((0, 1), (1, 0)))
+        for ask in (counting.nth_hold, counting.rank_of, counting.next_hold, counting.holds_begun, counting.next_marks,
+                    cases.cases_for):
+            for thing in (None, -1, True, (0, 0), [True], (True,) * 14):
+                with self.assertRaises(TooGreat) as caught:
+                    ask(great, thing)
+                self.assertEqual(vars(caught.exception), {"many": 13, "most": 12})
+        with self.assertRaises(TooGreat) as caught:
+            marks.grown_web((40, tuple(pairs_of(40)[:200])), (0, 1))
+        self.assertEqual(vars(caught.exception), {"many": 41, "most": 40})
+
     def test_refusals_can_be_taken_as_value_errors(self):
-        for ask, things in ((webs.web_of, (0, [])), (webs.leads_to, (WEB, 6)), (holds.left_by, (WEB, (0,))),
-                            (holds.why_not, (WEB, [0]))):
-            with self.assertRaises(ValueError):
-                ask(*things)
+        for kind, ask, things in (
+            (NoWeb, webs.web_of, (0, [])), (NoPlace, webs.leads_to, (WEB, 6)), (NoHold, holds.left_by, (WEB, (0,))),
+            (NoPlace, holds.why_not, (WEB, [0])), (Ringed, marks.one_hold, (WEB,)), (Ringed, marks.depths_of, (WEB,)),
+            (TooGreat, marks.grown_web, ((40, ()), ())), (TooGreat, counting.all_holds, ((13, ()),)),
+            (NoNumber, counting.nth_hold, (WEB, -1)), (NoHold, counting.rank_of, (WEB, ())),
+            (NoPlace, counting.holds_begun, (WEB, [])), (NoPlace, cases.cases_good, (WEB, [], ())),
+        ):
+            with self.subTest(ask=ask.__name__):
+                with self.assertRaises(ValueError) as caught:
+                    ask(*things)
+                self.assertIs(type(caught.exception), kind)
 
 
 if __name__ == "__main__":

@@ -9,7 +9,7 @@ from holdsets.webs import (
     among_web, comes_of, ends_of, groups_of, leads_to, led_from, order_good, order_of, ring_good, turned_web, web_good,
     web_of,
 )
-from tests.helper import great_webs, is_place, pairs_of, small_webs, webs_with, whatever
+from tests.helper import great_webs, is_place, pairs_of, rings_of, small_webs, webs_with, whatever
 
 PAIRS = tuple(pairs_of(40))
 DOWN = (4, ((1, 0), (2, 0), (2, 1), (3, 1)))
@@ -19,15 +19,6 @@ RINGED = (6, ((0, 1), (1, 2), (2, 0), (2, 3), (3, 4), (4, 3)))
 def no_places(web):
     """Whatever there is that is no place of the web."""
     return [thing for thing in whatever() if not is_place(web, thing)] + [web[0], -1, True, False]
-
-
-def is_ring(web, places):
-    return len(places) > 1 and all(step in web[1] for step in zip(places, places[1:] + places[:1]))
-
-
-def rings_of(web):
-    ways = [way for count in range(2, web[0] + 1) for way in itertools.permutations(range(web[0]), count)]
-    return [way for way in ways if is_ring(web, way)]
 
 
 def orders_of(web):
