@@ -29,6 +29,11 @@ def whatever():
         {True: False}, (True, "False"), (False,) * 45, "cases", ("cases",), ("cases", (), ()), ("cases", True, False),
         ("cases", ("lost", 0), ("lost", 0)), ("cases", ("tied", 0, 1), ("lost", 0)), ["cases", ("lost", 0), ("lost", 0)],
         nested(lambda thing: ("cases", thing, 0), 50), nested(lambda thing: ("cases", ("lost", 0), thing), 49),
+        (0, 1, 0, 1), (1, 0, 1, 0), (0, 0, 0, 0), (False, True, False, True), [0, 1, 0, 1], (0, True, 0, 1), (0, 1, 0, 2),
+        (0, 1, 0, None), (None,) * 4, [None] * 4, (None, None), (1, 0, None, None), (3, 2, 1, 0), [3, 2, 1, 0],
+        (0,) * 8, (0,) * 9,
+        [0] * 3, (0, 0, "0"), (0, [0]), (0, 10 ** 99, 0, 1), ("0", "1", "0", "1"), "lost", "won", "open",
+        {0: 0, 1: 1, 2: 0, 3: 1},
     ]
 
 
@@ -85,6 +90,34 @@ def counted_webs():
     return webs
 
 
+def even_webs():
+    """Webs without odd rings, of 1 to 40 places whose numbers follow no order, some of them with many rings."""
+    drawn = random.Random(4)
+    webs = []
+    for many in range(1, 41):
+        order = drawn.sample(range(many), many)
+        # Between two blocks arrows lead back alone; within a block they lead from one of two sides to the other one.
+        side = [drawn.randrange(2) for _ in range(many)]
+        for wide in (2, 5, many):
+            pairs = [
+                (order[a], order[b]) for a, b in pairs_of(many)
+                if a // wide > b // wide or a // wide == b // wide and side[a] != side[b]
+            ]
+            count = min(len(pairs), 200, drawn.choice((many, 2 * many, 5 * many)))
+            webs.append((many, tuple(sorted(drawn.sample(pairs, count)))))
+    return webs
+
+
+def drawn_webs():
+    """Webs of 1 to 40 places with few or many arrows, the same ones each time."""
+    drawn = random.Random(6)
+    webs = []
+    for many in range(1, 41):
+        for count in (many // 2, many, many + many // 3, 2 * many, 5 * many):
+            webs.append((many, tuple(sorted(drawn.sample(pairs_of(many), min(count, many * (many - 1), 200))))))
+    return webs
+
+
 def subsets(places):
     """All rising tuples of some of the places, perhaps none."""
     places = tuple(places)
@@ -130,6 +163,42 @@ def rings_of(web):
     """Tell all rings of a small web, by trying all rows of its places."""
     ways = [way for count in range(2, web[0] + 1) for way in itertools.permutations(range(web[0]), count)]
     return [way for way in ways if is_ring(web, way)]
+
+
+def is_odd_ring(web, thing):
+    if not isinstance(thing, tuple) or not all(is_place(web, part) for part in thing) or len(thing) % 2 == 0:
+        return False
+    return len(set(thing)) == len(thing) and is_ring(web, thing)
+
+
+def has_odd_way_back(web):
+    """Tell whether some way of an odd count of arrows leads back to its start, by a table of where each way may lead."""
+    many = web[0]
+    # The row of a place has a bit for each place to come to by an even count of arrows, and many bits on by an odd one.
+    rows = [0] * (2 * many)
+    for a, b in web[1]:
+        rows[a] |= 1 << many + b
+        rows[many + a] |= 1 << b
+    for middle in range(2 * many):
+        for start in range(2 * many):
+            if rows[start] >> middle & 1:
+                rows[start] |= rows[middle]
+    return any(rows[place] >> many + place & 1 for place in range(many))
+
+
+def settled_by_layers(web):
+    """Tell True, False or None by places: ends of what is not settled yet are in, what leads to them is out."""
+    settled = [None] * web[0]
+    while True:
+        rest = {place for place in range(web[0]) if settled[place] is None}
+        ends = [place for place in rest if not any(a == place and b in rest for a, b in web[1])]
+        if not ends:
+            return settled
+        for place in ends:
+            settled[place] = True
+        for a, b in web[1]:
+            if b in ends:
+                settled[a] = False
 
 
 def beginnings_of(web):

@@ -6,7 +6,11 @@ from holdsets.cases import cases_for, cases_good
 from holdsets.counting import all_holds, holds_begun, holds_count
 from holdsets.errors import NoPlace, TooGreat
 from holdsets.holds import half_good
-from tests.helper import beginnings_of, counted_webs, holds_by_trial, is_beginning, rings_of, small_webs, whatever
+from holdsets.rings import hold_or_ring, odd_ring
+from holdsets.webs import ring_good
+from tests.helper import (
+    beginnings_of, counted_webs, holds_by_trial, is_beginning, is_odd_ring, rings_of, small_webs, webs_with, whatever,
+)
 
 TWO = (2, ((0, 1), (1, 0)))
 THREE = (3, ((0, 1), (1, 2), (2, 0)))
@@ -317,6 +321,19 @@ class SoTest(CasesTestCase):
         for web in small_webs():
             if holds_count(web) == 0:
                 self.assertTrue(any(len(ring) in (3, 5) for ring in rings_of(web)))
+
+    def test_the_odd_ring_of_a_web_without_holds_is_told(self):
+        none = 0
+        for web in small_webs() + webs_with(4, 7) + counted_webs() + [LATE]:
+            if cases_for(web, ()) is not None:
+                none += 1
+                self.assertEqual(holds_count(web), 0)
+                self.assertTrue(is_odd_ring(web, odd_ring(web)))
+                self.assertIs(ring_good(web, odd_ring(web)), True)
+                self.assertEqual(hold_or_ring(web)[0], "ring")
+            elif odd_ring(web) is None:
+                self.assertIn(hold_or_ring(web)[1], all_holds(web))
+        self.assertGreater(none, 20)
 
     def test_half_holds_need_not_be_parts_of_holds(self):
         web = (5, ((0, 1), (1, 0), (2, 1), (2, 3), (3, 4), (4, 2)))

@@ -4,10 +4,10 @@ import copy
 import inspect
 import unittest
 
-from holdsets import cases, counting, holds, marks, webs
+from holdsets import cases, counting, games, holds, marks, numbers, rings, webs
 from holdsets.errors import NoHold, NoNumber, NoPlace, NoWeb, Ringed, TooGreat, WebError
 from tests.helper import (
-    counted_webs, great_webs, nested, pairs_of, ringless_webs, small_webs, subsets, whatever,
+    counted_webs, drawn_webs, even_webs, great_webs, nested, pairs_of, ringless_webs, small_webs, subsets, whatever,
 )
 
 WEB = (6, ((0, 1), (1, 2), (2, 3), (3, 0), (3, 4)))
@@ -16,6 +16,10 @@ PATH = (4, ((0, 1), (1, 2), (2, 3)))
 PAIRS = (4, ((0, 1), (1, 0), (2, 3), (3, 2)))
 # Nine places that lead to a ring of three places behind them, which no set of places holds.
 LATE = (12, tuple(sorted([(place, 9) for place in range(9)] + [(9, 10), (10, 11), (11, 9)])))
+# A ring of four, an odd ring of three, a ring of two that is left by one place to the end of a path of three.
+FOUR = (4, ((0, 1), (1, 2), (2, 3), (3, 0)))
+THREE = (3, ((0, 1), (1, 2), (2, 0)))
+GAME = (5, ((0, 1), (1, 0), (1, 2), (2, 3), (3, 4)))
 
 INTERFACE = (
     (webs, "web_good", ["thing"]),
@@ -54,6 +58,24 @@ INTERFACE = (
     (counting, "never_in", ["web"]),
     (cases, "cases_good", ["web", "begun", "thing"]),
     (cases, "cases_for", ["web", "begun"]),
+    (rings, "odd_ring", ["web"]),
+    (rings, "sides_of", ["web"]),
+    (rings, "sides_good", ["web", "thing"]),
+    (rings, "hold_or_ring", ["web"]),
+    (rings, "settled_marks", ["web"]),
+    (rings, "rest_of", ["web"]),
+    (games, "outcomes", ["web"]),
+    (games, "lengths_of", ["web"]),
+    (games, "lengths_good", ["web", "thing"]),
+    (games, "best_moves", ["web", "place"]),
+    (games, "play_good", ["web", "thing"]),
+    (games, "play_of", ["web", "place"]),
+    (numbers, "numbers_good", ["web", "thing"]),
+    (numbers, "numbers_of", ["web"]),
+    (numbers, "together_of", ["numbers"]),
+    (numbers, "stones_number", ["web", "stones"]),
+    (numbers, "good_moves", ["web", "stones"]),
+    (numbers, "number_web", ["most"]),
 )
 
 # Each question with one thing left open, for whatever is handed in there.
@@ -85,6 +107,19 @@ ASKED_OF_WHATEVER = (
     ("cases_good begun", lambda thing: cases.cases_good(PAIRS, thing, ("lost", 0))),
     ("cases_good thing", lambda thing: cases.cases_good(PAIRS, (False, False), thing)),
     ("cases_for", lambda thing: cases.cases_for(PAIRS, thing)),
+    ("sides_good", lambda thing: rings.sides_good(FOUR, thing)),
+    ("sides_good odd", lambda thing: rings.sides_good(THREE, thing)),
+    ("lengths_good", lambda thing: games.lengths_good(PATH, thing)),
+    ("lengths_good ringed", lambda thing: games.lengths_good(GAME, thing)),
+    ("best_moves", lambda thing: games.best_moves(GAME, thing)),
+    ("play_good", lambda thing: games.play_good(PATH, thing)),
+    ("play_of", lambda thing: games.play_of(GAME, thing)),
+    ("numbers_good", lambda thing: numbers.numbers_good(PATH, thing)),
+    ("numbers_good ringed", lambda thing: numbers.numbers_good(PAIRS, thing)),
+    ("stones_number", lambda thing: numbers.stones_number(PATH, thing)),
+    ("stones_number ringed", lambda thing: numbers.stones_number(PAIRS, thing)),
+    ("good_moves", lambda thing: numbers.good_moves(PATH, thing)),
+    ("good_moves ringed", lambda thing: numbers.good_moves(PAIRS, thing)),
 )
 
 QUESTIONS = (
@@ -135,6 +170,35 @@ QUESTIONS = (
     (cases.cases_for, (PATH, (True,))),
     (cases.cases_for, (PATH, (False,))),
     (cases.cases_for, (LATE, ())),
+    (rings.odd_ring, (THREE,)),
+    (rings.odd_ring, (FOUR,)),
+    (rings.sides_of, (FOUR,)),
+    (rings.sides_of, (THREE,)),
+    (rings.sides_good, (FOUR, (0, 1, 0, 1))),
+    (rings.hold_or_ring, (FOUR,)),
+    (rings.hold_or_ring, (LATE,)),
+    (rings.settled_marks, (GAME,)),
+    (rings.rest_of, (GAME,)),
+    (rings.rest_of, (PAIRS,)),
+    (games.outcomes, (GAME,)),
+    (games.outcomes, (PAIRS,)),
+    (games.lengths_of, (GAME,)),
+    (games.lengths_good, (PATH, (3, 2, 1, 0))),
+    (games.best_moves, (GAME, 1)),
+    (games.best_moves, (GAME, 5)),
+    (games.play_good, (PATH, (1, 2, 3))),
+    (games.play_of, (PATH, 0)),
+    (games.play_of, (PAIRS, 0)),
+    (numbers.numbers_good, (PATH, (1, 0, 1, 0))),
+    (numbers.numbers_of, (PATH,)),
+    (numbers.numbers_of, (THREE,)),
+    (numbers.together_of, ([3, 5, 10 ** 59],)),
+    (numbers.stones_number, (PATH, (0, 1, 2, 2))),
+    (numbers.stones_number, (PATH, [0])),
+    (numbers.good_moves, (PATH, (0, 2, 2, 1))),
+    (numbers.good_moves, (THREE, ())),
+    (numbers.number_web, (4,)),
+    (numbers.number_web, (20,)),
 )
 
 # Questions that are answered with lists.
@@ -146,6 +210,13 @@ LISTS_TOLD = (
     (marks.depths_of, (PATH,)),
     (counting.all_holds, (PAIRS,)),
     (counting.next_marks, (PAIRS, ())),
+    (rings.settled_marks, (GAME,)),
+    (rings.settled_marks, (PAIRS,)),
+    (games.outcomes, (PATH,)),
+    (games.outcomes, (PAIRS,)),
+    (games.best_moves, (PATH, 0)),
+    (games.best_moves, (PAIRS, 0)),
+    (numbers.good_moves, (PATH, (0, 2, 2))),
 )
 
 
@@ -181,6 +252,25 @@ class InterfaceTest(unittest.TestCase):
         self.assertEqual(marks.depths_of((45, ((0, 44),))), [1] + [0] * 44)
         self.assertIs(cases.cases_good(far, (True,) * 45, ("tied", 5, 0)), True)
 
+    def test_rings_games_and_numbers_somewhat_beyond(self):
+        path = (45, tuple((place, place + 1) for place in range(44)))
+        ring = (45, path[1] + ((44, 0),))
+        full = (21, tuple((a, b) for a in range(21) for b in range(a)))
+        self.assertEqual(rings.odd_ring(ring), tuple(range(45)))
+        self.assertEqual(rings.sides_of(path), (0,) * 45)
+        self.assertIs(rings.sides_good(path, (0,) * 45), True)
+        self.assertEqual(rings.hold_or_ring(path), ("hold", tuple(range(0, 45, 2))))
+        self.assertEqual(rings.settled_marks(ring), [None] * 45)
+        self.assertEqual(rings.rest_of(ring), tuple(range(45)))
+        self.assertEqual(games.outcomes(path), ["lost"] + ["won", "lost"] * 22)
+        self.assertEqual(games.lengths_of(path), tuple(range(44, -1, -1)))
+        self.assertEqual(games.play_of(path, 0), tuple(range(45)))
+        self.assertEqual(games.best_moves(ring, 44), [0])
+        self.assertEqual(numbers.numbers_of(full), tuple(range(21)))
+        self.assertIs(numbers.numbers_good(full, tuple(range(21))), True)
+        self.assertEqual(numbers.good_moves(full, (20, 7)), [(0, 7)])
+        self.assertEqual(numbers.together_of([10 ** 70, 10 ** 70, 1]), 1)
+
 
 class ShownTest(unittest.TestCase):
     """[0.1]"""
@@ -202,6 +292,28 @@ class ShownTest(unittest.TestCase):
             for begun in ((), (True,), (False,)):
                 paper = cases.cases_for(web, begun)
                 self.assertIs(cases.cases_good(web, begun, paper), counting.holds_begun(web, begun) == 0)
+
+    def test_a_hold_or_an_odd_ring_and_sides_are_what_the_looker_asks_for(self):
+        for web in small_webs() + drawn_webs() + even_webs():
+            word, thing = rings.hold_or_ring(web)
+            self.assertIs((holds.hold_good if word == "hold" else webs.ring_good)(web, thing), True)
+            self.assertIs(rings.sides_good(web, rings.sides_of(web)), word == "hold")
+
+    def test_lengths_plays_and_numbers_are_what_the_looker_asks_for(self):
+        for web in small_webs() + drawn_webs()[::3] + ringless_webs()[::2]:
+            lengths = games.lengths_of(web)
+            self.assertIs(games.lengths_good(web, lengths), True)
+            for place in range(web[0]):
+                self.assertIs(games.play_good(web, games.play_of(web, place)), lengths[place] is not None)
+            if webs.order_of(web)[0] == "order":
+                self.assertIs(numbers.numbers_good(web, numbers.numbers_of(web)), True)
+
+    def test_where_there_is_no_hold_a_paper_shows_it_and_an_odd_ring_stands_in_the_web(self):
+        for web in small_webs() + counted_webs():
+            if counting.holds_count(web) == 0:
+                self.assertIs(cases.cases_good(web, (), cases.cases_for(web, ())), True)
+                self.assertIs(webs.ring_good(web, rings.odd_ring(web)), True)
+                self.assertEqual(len(rings.odd_ring(web)) % 2, 1)
 
     def test_where_no_ring_is_there_is_just_one_hold(self):
         for web in ringless_webs():
@@ -235,6 +347,15 @@ class UnchangedTest(unittest.TestCase):
         self.assertEqual(web, (2, ((0, 1), (1, 0))))
         self.assertEqual(webs.web_of(2, [(1, 0), (0, 1)]), web)
 
+    def test_numbers_handed_in_are_not_changed_nor_kept(self):
+        for things in ([], [5], [3, 5, 3], [10 ** 59, 0, 1]):
+            ahead = list(things)
+            told = numbers.together_of(things)
+            self.assertEqual(repr(things), repr(ahead))
+            things.append(2 ** 100)
+            self.assertEqual(numbers.together_of(ahead), told)
+            self.assertNotEqual(numbers.together_of(things), told)
+
     def test_lists_that_are_told_are_the_asker_s_own(self):
         for ask, things in LISTS_TOLD:
             with self.subTest(ask=ask.__name__):
@@ -266,6 +387,27 @@ class UnchangedTest(unittest.TestCase):
             for group in webs.groups_of(told):
                 self.assertIs(webs.web_good(webs.among_web(told, group)), True)
                 self.assertIn(holds.hold_good(told, group), (True, False))
+
+    def test_sides_lengths_and_plays_told_may_be_handed_in_again(self):
+        for web in great_webs() + even_webs()[::5]:
+            lengths = games.lengths_of(web)
+            sides = rings.sides_of(web)
+            for _ in range(2):
+                self.assertIs(games.lengths_good(web, lengths), True)
+                self.assertIs(rings.sides_good(web, sides), sides is not None)
+            rest = rings.rest_of(web)
+            self.assertEqual(holds.why_not(web, rest) is None, rest != () and holds.hold_good(web, rest))
+            if rest != ():
+                self.assertEqual(rings.rest_of(webs.among_web(web, rest)), tuple(range(len(rest))))
+
+    def test_number_webs_and_good_moves_told_may_be_handed_in_again(self):
+        web = numbers.number_web(19)
+        self.assertIs(numbers.numbers_good(web, numbers.numbers_of(web)), True)
+        stones = (19, 12, 12, 7)
+        for stone, place in numbers.good_moves(web, stones):
+            moved = stones[:stone] + (place,) + stones[stone + 1:]
+            self.assertEqual(numbers.stones_number(web, moved), 0)
+        self.assertEqual(numbers.together_of([numbers.together_of([10 ** 59, 1]), 1]), 10 ** 59)
 
     def test_holds_and_papers_told_may_be_handed_in_again(self):
         paper = cases.cases_for(LATE, ())
@@ -305,6 +447,16 @@ class WhateverTest(unittest.TestCase):
                     ask(two, (thing,))
             with self.assertRaises(NoNumber):
                 counting.nth_hold(two, thing)
+            for ask in (games.best_moves, games.play_of):
+                with self.assertRaises(NoPlace):
+                    ask(two, thing)
+            for ask in (numbers.stones_number, numbers.good_moves):
+                with self.assertRaises(NoPlace):
+                    ask(PATH, (thing,))
+        self.assertIs(rings.sides_good(two, (False, True)), False)
+        self.assertIs(games.lengths_good((2, ((1, 0),)), (False, True)), False)
+        self.assertIs(games.play_good((2, ((1, 0),)), (True, False)), False)
+        self.assertIs(numbers.numbers_good((2, ((1, 0),)), (False, True)), False)
         self.assertIs(cases.cases_good(two, (True, True), ("tied", False, True)), False)
         self.assertIs(webs.ring_good(two, (False, True)), False)
         self.assertIs(webs.order_good((2, ()), (False, True)), False)
@@ -319,7 +471,7 @@ class WhateverTest(unittest.TestCase):
 
     def test_lookers_tell_truths_alone(self):
         for name, ask in ASKED_OF_WHATEVER:
-            if "good" in name and name.split()[-1] not in ("places", "begun"):
+            if name.split()[0].endswith("_good") and name.split()[-1] not in ("places", "begun"):
                 for thing in whatever():
                     with self.subTest(name=name, thing=thing):
                         self.assertIn(repr(ask(thing)), ("True", "False"))
@@ -348,6 +500,17 @@ class FirstRefusalTest(unittest.TestCase):
             marks.grown_web((40, tuple(pairs_of(40)[:200])), (0, 1))
         self.assertEqual(vars(caught.exception), {"many": 41, "most": 40})
 
+    def test_ringed_goes_ahead_of_no_place(self):
+        for ask in (numbers.stones_number, numbers.good_moves):
+            for web in (THREE, PAIRS, GAME):
+                for thing in (None, -1, True, [0], (9,), (True,), (0,) * 9):
+                    with self.assertRaises(Ringed) as caught:
+                        ask(web, thing)
+                    self.assertIs(webs.ring_good(web, caught.exception.ring), True)
+            for thing in (None, -1, True, [0], (9,), (True,), (0,) * 9):
+                with self.assertRaises(NoPlace):
+                    ask(PATH, thing)
+
     def test_refusals_can_be_taken_as_value_errors(self):
         for kind, ask, things in (
             (NoWeb, webs.web_of, (0, [])), (NoPlace, webs.leads_to, (WEB, 6)), (NoHold, holds.left_by, (WEB, (0,))),
@@ -355,6 +518,10 @@ class FirstRefusalTest(unittest.TestCase):
             (TooGreat, marks.grown_web, ((40, ()), ())), (TooGreat, counting.all_holds, ((13, ()),)),
             (NoNumber, counting.nth_hold, (WEB, -1)), (NoHold, counting.rank_of, (WEB, ())),
             (NoPlace, counting.holds_begun, (WEB, [])), (NoPlace, cases.cases_good, (WEB, [], ())),
+            (NoPlace, games.best_moves, (WEB, 6)), (NoPlace, games.play_of, (WEB, None)), (Ringed, numbers.numbers_of, (WEB,)),
+            (Ringed, numbers.stones_number, (WEB, None)), (Ringed, numbers.good_moves, (WEB, ())),
+            (NoPlace, numbers.stones_number, (PATH, [])), (NoPlace, numbers.good_moves, (PATH, (4,))),
+            (TooGreat, numbers.number_web, (20,)),
         ):
             with self.subTest(ask=ask.__name__):
                 with self.assertRaises(ValueError) as caught:
