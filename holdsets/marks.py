@@ -1,8 +1,8 @@
 """Marks of webs, and what webs without rings have: one hold, and depths."""
 
-from holdsets.errors import Ringed, TooGreat
+from holdsets.errors import Ringed
 from holdsets.holds import hold_good
-from holdsets.webs import MOST_ARROWS, MOST_PLACES, all_leads, order_of
+from holdsets.webs import all_leads, bounded_web, order_of
 
 
 def truths_good(thing):
@@ -61,11 +61,4 @@ def depths_of(web):
 
 def grown_web(web, places):
     """Tell the web with one place more, the last one, that leads to just these places."""
-    many = web[0] + 1
-    if many > MOST_PLACES:
-        raise TooGreat(many, MOST_PLACES)
-    # The new place is the greatest, so its arrows stand behind all others.
-    arrows = web[1] + tuple([(web[0], place) for place in places])
-    if len(arrows) > MOST_ARROWS:
-        raise TooGreat(len(arrows), MOST_ARROWS)
-    return (many, arrows)
+    return bounded_web(web[0] + 1, list(web[1]) + [(web[0], place) for place in places])

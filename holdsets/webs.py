@@ -1,6 +1,6 @@
 """Webs: places that lead to one another by arrows."""
 
-from holdsets.errors import NoPlace, NoWeb
+from holdsets.errors import NoPlace, NoWeb, TooGreat
 
 MOST_PLACES = 40
 MOST_ARROWS = 200
@@ -64,6 +64,15 @@ def web_of(many, things):
             raise NoWeb(number)
         seen[thing] = True
     return (many, tuple(sorted(seen)))
+
+
+def bounded_web(many, arrows):
+    """Tell the web of so many places with these arrows in any order; refused where it would be too great."""
+    if many > MOST_PLACES:
+        raise TooGreat(many, MOST_PLACES)
+    if len(arrows) > MOST_ARROWS:
+        raise TooGreat(len(arrows), MOST_ARROWS)
+    return (many, tuple(sorted(arrows)))
 
 
 def refuse_no_place(web, thing):

@@ -131,9 +131,42 @@ class LanguageTest(unittest.TestCase):
         for path, tree in self.trees.items():
             names = top_names(tree) + imported_names(tree)
             self.assertEqual(sorted(names), sorted(set(names)), path.name)
-            for function in tree.body:
+            for function in ast.walk(tree):
                 if isinstance(function, ast.FunctionDef):
                     self.assertEqual(local_names(function) & set(names), set(), path.name)
+
+    def test_what_stands_at_the_top_holds_no_list_or_dict_within(self):
+        for path, tree in self.trees.items():
+            for node in tree.body:
+                if isinstance(node, ast.Assign):
+                    inner = [part for part in ast.walk(node.value) if isinstance(part, (ast.List, ast.Dict))]
+                    self.assertIn(inner, ([], [node.value]), f"{path.name}:{node.lineno}")
+
+    def test_what_stands_at_the_top_is_only_read(self):
+        for path, tree in self.trees.items():
+            kept = [
+                node.targets[0].id for node in tree.body
+                if isinstance(node, ast.Assign) and isinstance(node.value, (ast.List, ast.Dict))
+            ]
+            allowed = set()
+            for node in ast.walk(tree):
+                if isinstance(node, ast.Subscript) and isinstance(node.ctx, ast.Load):
+                    allowed.add(node.value)
+                if isinstance(node, ast.Compare):
+                    allowed |= set(node.comparators)
+            for node in ast.walk(tree):
+                if isinstance(node, ast.Name) and isinstance(node.ctx, ast.Load) and node.id in kept:
+                    self.assertIn(node, allowed, f"{path.name}:{node.lineno}")
+
+    def test_a_name_is_a_method_or_a_value(self):
+        methods = {part.name for _, node in self.nodes(ast.ClassDef) for part in node.body if isinstance(part, ast.FunctionDef)}
+        fields = {node.attr for _, node in self.nodes(ast.Attribute) if isinstance(node.ctx, ast.Store)}
+        self.assertEqual(methods & fields, set())
+
+    def test_powers_have_written_exponents(self):
+        for where, node in self.nodes(ast.BinOp):
+            if isinstance(node.op, ast.Pow):
+                self.assertIn(getattr(node.right, "value", -1), range(65), where)
 
     def test_walked_at_once(self):
         for path, tree in self.trees.items():

@@ -4,8 +4,8 @@ import copy
 import inspect
 import unittest
 
-from holdsets import cases, counting, games, holds, marks, numbers, rings, webs
-from holdsets.errors import NoHold, NoNumber, NoPlace, NoWeb, Ringed, TooGreat, WebError
+from holdsets import cases, counting, desk, games, heaps, holds, making, marks, numbers, rings, texts, webs
+from holdsets.errors import NoArrow, NoHold, NoNumber, NoPlace, NoRow, NoText, NoWeb, Ringed, TooGreat, WebError
 from tests.helper import (
     counted_webs, drawn_webs, even_webs, great_webs, nested, pairs_of, ringless_webs, small_webs, subsets, whatever,
 )
@@ -20,6 +20,10 @@ LATE = (12, tuple(sorted([(place, 9) for place in range(9)] + [(9, 10), (10, 11)
 FOUR = (4, ((0, 1), (1, 2), (2, 3), (3, 0)))
 THREE = (3, ((0, 1), (1, 2), (2, 0)))
 GAME = (5, ((0, 1), (1, 0), (1, 2), (2, 3), (3, 4)))
+# Takes beyond those that are told, without a round that is told; webs whose webs of arrows have too many arrows or places.
+LONG = (1, 18, 44, 45)
+DENSE = (34, tuple((0, b) for b in range(21, 31)) + tuple((a, 0) for a in range(1, 21)) + ((31, 32), (32, 33)))
+FULL = (40, tuple(pairs_of(40)[:200]))
 
 INTERFACE = (
     (webs, "web_good", ["thing"]),
@@ -76,7 +80,35 @@ INTERFACE = (
     (numbers, "stones_number", ["web", "stones"]),
     (numbers, "good_moves", ["web", "stones"]),
     (numbers, "number_web", ["most"]),
+    (heaps, "takes_good", ["thing"]),
+    (heaps, "heap_numbers", ["takes", "most"]),
+    (heaps, "heap_round", ["takes"]),
+    (heaps, "round_good", ["takes", "thing"]),
+    (heaps, "heap_far", ["takes", "heap"]),
+    (heaps, "heaps_number", ["takes", "heaps"]),
+    (heaps, "good_takes", ["takes", "heaps"]),
+    (heaps, "heap_web", ["takes", "most"]),
+    (heaps, "zero_heaps", ["takes", "most"]),
+    (making, "beside_web", ["web", "other"]),
+    (making, "both_web", ["web", "other"]),
+    (making, "arrows_web", ["web"]),
+    (making, "hold_to_arrows", ["web", "hold"]),
+    (making, "hold_from_arrows", ["web", "hold"]),
+    (making, "put_in", ["web", "place", "other"]),
+    (texts, "web_shown", ["web"]),
+    (texts, "web_read", ["text"]),
+    (desk, "Desk", []),
+    (desk.Desk, "say", ["self", "row"]),
 )
+
+
+def said(*rows):
+    """Tell what a new desk answers to the last of the rows."""
+    asked = desk.Desk()
+    for row in rows[:-1]:
+        asked.say(row)
+    return asked.say(rows[-1])
+
 
 # Each question with one thing left open, for whatever is handed in there.
 ASKED_OF_WHATEVER = (
@@ -120,6 +152,26 @@ ASKED_OF_WHATEVER = (
     ("stones_number ringed", lambda thing: numbers.stones_number(PAIRS, thing)),
     ("good_moves", lambda thing: numbers.good_moves(PATH, thing)),
     ("good_moves ringed", lambda thing: numbers.good_moves(PAIRS, thing)),
+    ("takes_good", heaps.takes_good),
+    ("heap_numbers", lambda thing: heaps.heap_numbers((1, 2), thing)),
+    ("round_good", lambda thing: heaps.round_good((1,), thing)),
+    ("heap_far", lambda thing: heaps.heap_far((2, 3), thing)),
+    ("heap_far without a round", lambda thing: heaps.heap_far(LONG, thing)),
+    ("heaps_number", lambda thing: heaps.heaps_number((1, 2), thing)),
+    ("good_takes", lambda thing: heaps.good_takes((1, 2), thing)),
+    ("heap_web", lambda thing: heaps.heap_web((1, 2, 3, 4, 5, 6), thing)),
+    ("zero_heaps", lambda thing: heaps.zero_heaps((1, 2), thing)),
+    ("hold_to_arrows", lambda thing: making.hold_to_arrows(PAIRS, thing)),
+    ("hold_to_arrows none", lambda thing: making.hold_to_arrows((2, ()), thing)),
+    ("hold_to_arrows great", lambda thing: making.hold_to_arrows(DENSE, thing)),
+    ("hold_from_arrows", lambda thing: making.hold_from_arrows(PAIRS, thing)),
+    ("hold_from_arrows none", lambda thing: making.hold_from_arrows((2, ()), thing)),
+    ("hold_from_arrows great", lambda thing: making.hold_from_arrows(DENSE, thing)),
+    ("put_in", lambda thing: making.put_in(PATH, thing, PAIRS)),
+    ("put_in great", lambda thing: making.put_in(PATH, thing, FULL)),
+    ("web_read", texts.web_read),
+    ("say", said),
+    ("say behind deeds", lambda thing: said("web 3", "arrow 0 1", thing)),
 )
 
 QUESTIONS = (
@@ -199,6 +251,43 @@ QUESTIONS = (
     (numbers.good_moves, (THREE, ())),
     (numbers.number_web, (4,)),
     (numbers.number_web, (20,)),
+    (heaps.takes_good, ((1, 2, 9),)),
+    (heaps.heap_numbers, ((2, 3), 12)),
+    (heaps.heap_numbers, ((2, 3), 5001)),
+    (heaps.heap_round, ((2, 3, 6, 8, 9),)),
+    (heaps.heap_round, (LONG,)),
+    (heaps.round_good, ((2, 3), (4, 10))),
+    (heaps.heap_far, ((1, 3, 4), 10 ** 40)),
+    (heaps.heap_far, (LONG, 5001)),
+    (heaps.heaps_number, ((1, 2, 3), [7, 2])),
+    (heaps.heaps_number, ((1, 2, 3), [])),
+    (heaps.good_takes, ((1, 2, 3), [7, 2])),
+    (heaps.good_takes, ((1, 2, 3), [True])),
+    (heaps.heap_web, ((1, 3), 4)),
+    (heaps.heap_web, ((4, 5, 6, 7, 8, 9), 39)),
+    (heaps.heap_web, ((1, 3), 40)),
+    (heaps.zero_heaps, ((1, 3), 9)),
+    (making.beside_web, (PATH, PAIRS)),
+    (making.beside_web, (PATH, (37, ()))),
+    (making.both_web, (PATH, PAIRS)),
+    (making.both_web, (PATH, (11, ()))),
+    (making.arrows_web, (GAME,)),
+    (making.arrows_web, ((2, ()),)),
+    (making.arrows_web, (DENSE,)),
+    (making.hold_to_arrows, (PATH, (1, 3))),
+    (making.hold_to_arrows, (PATH, (1,))),
+    (making.hold_from_arrows, (PATH, (0, 2))),
+    (making.hold_from_arrows, (THREE, (0,))),
+    (making.put_in, (PATH, 1, THREE)),
+    (making.put_in, (PATH, 4, THREE)),
+    (texts.web_shown, (GAME,)),
+    (texts.web_read, ("web 3\narrow 0 1\narrow 2 0",)),
+    (texts.web_read, ("web 3\narrow 0 1\narrow 0 1",)),
+    (said, ("shown",)),
+    (said, ("back",)),
+    (said, ("web 3", "arrow 0 1", "grow 0", "turn", "shown")),
+    (said, ("web 3", "arrow 0 1", "arrow 0 1")),
+    (said, ("web 3", "arrow 0 1", "back", "arrows")),
 )
 
 # Questions that are answered with lists.
@@ -217,6 +306,9 @@ LISTS_TOLD = (
     (games.best_moves, (PATH, 0)),
     (games.best_moves, (PAIRS, 0)),
     (numbers.good_moves, (PATH, (0, 2, 2))),
+    (heaps.heap_numbers, ((1, 2), 9)),
+    (heaps.good_takes, ((1, 3), [5, 4, 2])),
+    (heaps.zero_heaps, ((1, 2), 9)),
 )
 
 
@@ -271,6 +363,21 @@ class InterfaceTest(unittest.TestCase):
         self.assertEqual(numbers.good_moves(full, (20, 7)), [(0, 7)])
         self.assertEqual(numbers.together_of([10 ** 70, 10 ** 70, 1]), 1)
 
+    def test_heaps_and_webs_made_of_webs_somewhat_beyond(self):
+        ten = tuple(range(1, 11))
+        self.assertEqual(heaps.heap_numbers(ten, 12), list(range(11)) + [0, 1])
+        self.assertEqual(heaps.heap_round(ten), (0, 11))
+        self.assertIs(heaps.round_good((12,), (0, 24)), True)
+        self.assertEqual(heaps.heap_far((12,), 10 ** 40), 10 ** 40 // 12 % 2)
+        self.assertEqual(heaps.heaps_number((12,), [12, 5]), 1)
+        self.assertEqual(heaps.good_takes((12,), [12, 5]), [(0, 12)])
+        self.assertEqual(heaps.heap_web((12,), 13), (14, ((12, 0), (13, 1))))
+        self.assertEqual(heaps.zero_heaps(ten, 22), [0, 11, 22])
+        self.assertEqual(making.arrows_web((45, ((0, 44), (44, 1)))), (2, ((0, 1),)))
+        self.assertEqual(making.hold_from_arrows((45, ((0, 44),)), (0,)), tuple(range(1, 45)))
+        self.assertEqual(making.hold_to_arrows((45, ((0, 44),)), tuple(range(1, 45))), (0,))
+        self.assertEqual(texts.web_shown((45, ((0, 44),))), "web 45\narrow 0 44")
+
 
 class ShownTest(unittest.TestCase):
     """[0.1]"""
@@ -307,6 +414,19 @@ class ShownTest(unittest.TestCase):
                 self.assertIs(games.play_good(web, games.play_of(web, place)), lengths[place] is not None)
             if webs.order_of(web)[0] == "order":
                 self.assertIs(numbers.numbers_good(web, numbers.numbers_of(web)), True)
+
+    def test_rounds_and_webs_told_are_what_the_looker_asks_for(self):
+        for takes in ((1,), (2, 3), (2, 4, 7), (2, 3, 6, 8, 9), (1, 2, 3, 4, 5, 6, 7, 8, 9)):
+            self.assertIs(heaps.takes_good(takes), True)
+            self.assertIs(heaps.round_good(takes, heaps.heap_round(takes)), True)
+            web = heaps.heap_web(takes, 20)
+            self.assertIs(numbers.numbers_good(web, tuple(heaps.heap_numbers(takes, 20))), True)
+            self.assertIs(holds.hold_good(web, tuple(heaps.zero_heaps(takes, 20))), True)
+        for web in small_webs():
+            for other in (PATH, THREE, (1, ()), web):
+                for told in (making.beside_web(web, other), making.both_web(web, other), making.put_in(web, web[0] - 1, other)):
+                    self.assertIs(webs.web_good(told), True)
+                    self.assertEqual(texts.web_read(texts.web_shown(told)), told)
 
     def test_where_there_is_no_hold_a_paper_shows_it_and_an_odd_ring_stands_in_the_web(self):
         for web in small_webs() + counted_webs():
@@ -355,6 +475,17 @@ class UnchangedTest(unittest.TestCase):
             things.append(2 ** 100)
             self.assertEqual(numbers.together_of(ahead), told)
             self.assertNotEqual(numbers.together_of(things), told)
+
+    def test_heaps_handed_in_are_not_changed_nor_kept(self):
+        for ask in (heaps.heaps_number, heaps.good_takes):
+            for things in ([5], [3, 5, 3], [5000, 0, 1], [9, 9, 9, 2, 1, 0, 0, 7], [5001], [], [True, [1]], [0] * 9):
+                ahead = copy.deepcopy(things)
+                told = answer_of(ask, (1, 3, 4), things)
+                self.assertEqual(repr(things), repr(ahead))
+                things.clear()
+                things.append(4)
+                self.assertEqual(answer_of(ask, (1, 3, 4), ahead), told)
+                self.assertEqual(answer_of(ask, (1, 3, 4), things), answer_of(ask, (1, 3, 4), [4]))
 
     def test_lists_that_are_told_are_the_asker_s_own(self):
         for ask, things in LISTS_TOLD:
@@ -409,6 +540,28 @@ class UnchangedTest(unittest.TestCase):
             self.assertEqual(numbers.stones_number(web, moved), 0)
         self.assertEqual(numbers.together_of([numbers.together_of([10 ** 59, 1]), 1]), 10 ** 59)
 
+    def test_heaps_webs_and_texts_told_may_be_handed_in_again(self):
+        many = heaps.heap_numbers((1, 3, 4), 5000)
+        self.assertEqual(numbers.together_of(many), numbers.together_of(sorted(many)))
+        for things in (many, heaps.zero_heaps((1, 3, 4), 5000)):
+            with self.assertRaises(NoNumber):
+                heaps.heaps_number((1, 3, 4), things)
+        self.assertIs(heaps.round_good((2, 4, 7), heaps.heap_round((2, 4, 7))), True)
+        for web in great_webs():
+            self.assertEqual(texts.web_read(texts.web_shown(web)), web)
+            answer = answer_of(making.arrows_web, web)
+            self.assertEqual(answer_of(making.arrows_web, texts.web_read(texts.web_shown(web))), answer)
+        web = making.put_in(making.both_web(PATH, PAIRS), 3, making.beside_web(THREE, (5, ())))
+        self.assertIs(webs.web_good(making.beside_web(web, (40 - web[0], ()))), True)
+
+    def test_desks_have_nothing_in_common(self):
+        one, other = desk.Desk(), desk.Desk()
+        one.say("web 7")
+        one.say("arrow 0 6")
+        self.assertEqual((other.say("shown"), desk.Desk().say("shown")), ("web 1", "web 1"))
+        other.say("web 2")
+        self.assertEqual(one.say("shown"), "web 7 ; arrow 0 6")
+
     def test_holds_and_papers_told_may_be_handed_in_again(self):
         paper = cases.cases_for(LATE, ())
         self.assertGreater(len(repr(paper)), 20000)
@@ -453,6 +606,23 @@ class WhateverTest(unittest.TestCase):
             for ask in (numbers.stones_number, numbers.good_moves):
                 with self.assertRaises(NoPlace):
                     ask(PATH, (thing,))
+            for ask in (heaps.heap_numbers, heaps.heap_far, heaps.heap_web, heaps.zero_heaps):
+                with self.assertRaises(NoNumber):
+                    ask((1, 2), thing)
+            for ask in (heaps.heaps_number, heaps.good_takes):
+                with self.assertRaises(NoNumber):
+                    ask((1, 2), [thing])
+            for ask in (making.hold_to_arrows, making.hold_from_arrows):
+                with self.assertRaises(NoHold):
+                    ask(two, (thing,))
+            with self.assertRaises(NoPlace):
+                making.put_in(two, thing, two)
+            with self.assertRaises(NoText):
+                texts.web_read(thing)
+            with self.assertRaises(NoRow):
+                desk.Desk().say(thing)
+        self.assertIs(heaps.takes_good((True,)), False)
+        self.assertIs(heaps.round_good((1,), (False, 2)), False)
         self.assertIs(rings.sides_good(two, (False, True)), False)
         self.assertIs(games.lengths_good((2, ((1, 0),)), (False, True)), False)
         self.assertIs(games.play_good((2, ((1, 0),)), (True, False)), False)
@@ -511,6 +681,52 @@ class FirstRefusalTest(unittest.TestCase):
                 with self.assertRaises(NoPlace):
                     ask(PATH, thing)
 
+    def test_no_number_goes_ahead_of_too_great(self):
+        for heap in (-1, 10 ** 40 + 1, True, None, "5001"):
+            with self.assertRaises(NoNumber):
+                heaps.heap_far(LONG, heap)
+        with self.assertRaises(TooGreat) as caught:
+            heaps.heap_far(LONG, 10 ** 40)
+        self.assertEqual(vars(caught.exception), {"many": 10 ** 40, "most": 5000})
+        for most in (-1, 40, True, None, "39"):
+            with self.assertRaises(NoNumber):
+                heaps.heap_web((1, 2, 3, 4, 5, 6, 7), most)
+
+    def test_no_arrow_then_too_great_then_no_hold(self):
+        for ask in (making.hold_to_arrows, making.hold_from_arrows):
+            for thing in (None, -1, (), [0], (0,), (99,), (True,)):
+                with self.assertRaises(NoArrow):
+                    ask((40, ()), thing)
+                with self.assertRaises(TooGreat) as caught:
+                    ask(FULL, thing)
+                self.assertEqual(vars(caught.exception), {"many": 200, "most": 40})
+                with self.assertRaises(TooGreat) as caught:
+                    ask(DENSE, thing)
+                self.assertEqual(vars(caught.exception), {"many": 201, "most": 200})
+                with self.assertRaises(NoHold):
+                    ask(GAME, thing)
+
+    def test_no_place_goes_ahead_of_too_great(self):
+        for thing in (None, -1, True, 40, (0,), "0"):
+            with self.assertRaises(NoPlace):
+                making.put_in(FULL, thing, FULL)
+        with self.assertRaises(TooGreat) as caught:
+            making.put_in(FULL, 0, FULL)
+        self.assertEqual(vars(caught.exception), {"many": 79, "most": 40})
+
+    def test_what_a_desk_refuses_changes_nothing(self):
+        asked = desk.Desk()
+        for row in ("web 3", "arrow 0 1", "arrow 1 2"):
+            asked.say(row)
+        for row, refusal in (
+            (None, "NoRow{}"), ("arrow 9", "NoRow{}"), ("arrow 9 9", "NoPlace{}"), ("arrow 0 0", "NoWeb{'number': 2}"),
+            ("arrow 0 1", "NoWeb{'number': 2}"), ("cut 1 0", "NoWeb{'number': 2}"), ("web 41", "NoWeb{'number': -1}"),
+            ("grow 1 0", "NoPlace{}"), ("among 0 3", "NoPlace{}"), ("look 3", "NoPlace{}"),
+        ):
+            self.assertEqual(answer_of(asked.say, row), refusal)
+            self.assertEqual(asked.say("shown"), "web 3 ; arrow 0 1 ; arrow 1 2")
+        self.assertEqual([asked.say("back"), asked.say("shown")], ["ok", "web 3 ; arrow 0 1"])
+
     def test_refusals_can_be_taken_as_value_errors(self):
         for kind, ask, things in (
             (NoWeb, webs.web_of, (0, [])), (NoPlace, webs.leads_to, (WEB, 6)), (NoHold, holds.left_by, (WEB, (0,))),
@@ -521,7 +737,17 @@ class FirstRefusalTest(unittest.TestCase):
             (NoPlace, games.best_moves, (WEB, 6)), (NoPlace, games.play_of, (WEB, None)), (Ringed, numbers.numbers_of, (WEB,)),
             (Ringed, numbers.stones_number, (WEB, None)), (Ringed, numbers.good_moves, (WEB, ())),
             (NoPlace, numbers.stones_number, (PATH, [])), (NoPlace, numbers.good_moves, (PATH, (4,))),
-            (TooGreat, numbers.number_web, (20,)),
+            (TooGreat, numbers.number_web, (20,)), (NoNumber, heaps.heap_numbers, ((1,), -1)),
+            (NoNumber, heaps.heap_far, ((1,), None)), (TooGreat, heaps.heap_far, (LONG, 5001)),
+            (NoNumber, heaps.heaps_number, ((1,), [])), (NoNumber, heaps.good_takes, ((1,), (1,))),
+            (NoNumber, heaps.heap_web, ((1,), 40)), (TooGreat, heaps.heap_web, ((4, 5, 6, 7, 8, 9), 39)),
+            (NoNumber, heaps.zero_heaps, ((1,), 5001)), (TooGreat, making.beside_web, (FULL, PATH)),
+            (TooGreat, making.both_web, (FULL, PATH)), (NoArrow, making.arrows_web, ((2, ()),)),
+            (TooGreat, making.arrows_web, (DENSE,)), (NoHold, making.hold_to_arrows, (PATH, ())),
+            (NoHold, making.hold_from_arrows, (PATH, None)), (NoPlace, making.put_in, (PATH, 4, PATH)),
+            (TooGreat, making.put_in, (PATH, 0, FULL)), (NoText, texts.web_read, ("",)), (NoRow, said, ("",)),
+            (NoWeb, said, ("web 0",)), (NoPlace, said, ("game 1",)), (TooGreat, said, ("web 13", "holds")),
+            (Ringed, said, ("web 2", "arrow 0 1", "arrow 1 0", "numbers")),
         ):
             with self.subTest(ask=ask.__name__):
                 with self.assertRaises(ValueError) as caught:
